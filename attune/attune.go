@@ -7,12 +7,14 @@ import (
 
 	"attune/api"
 	"attune/state"
+	"attune/tree"
+	"attune/wire"
 )
 
 // Replica: keys with their versions.
 type Replica struct {
-	number int
-	states map[string]state.State // of the known keys alone
+	number   int
+	segments [api.Segments]segment
 }
 
 // New makes a replica that knows no key (P3).
@@ -20,7 +22,11 @@ func New(replica int) (*Replica, api.Errno) {
 	if replica < 0 || replica >= api.Replicas {
 		return nil, api.ErrReplica
 	}
-	return &Replica{number: replica, states: map[string]state.State{}}, api.OK
+	r := &Replica{number: replica}
+	for n := range r.segments {
+		r.segments[n] = segment{}
+	}
+	return r, api.OK
 }
 
 // Put writes a value (P4).
@@ -34,7 +40,7 @@ func (r *Replica) Put(key string, value string, seen api.Context) api.Errno {
 	case !context.Sound():
 		return api.ErrSeen
 	}
-	after, errno := r.states[key].Put(r.number, strings.Clone(value), context)
+	after, errno := r.segmentOf(key)[key].Put(r.number, strings.Clone(value), context)
 	return r.keep(key, after, errno)
 }
 
@@ -47,7 +53,7 @@ func (r *Replica) Delete(key string, seen api.Context) api.Errno {
 	case !context.Sound():
 		return api.ErrSeen
 	}
-	after, errno := r.states[key].Delete(context)
+	after, errno := r.segmentOf(key)[key].Delete(context)
 	return r.keep(key, after, errno)
 }
 
@@ -55,7 +61,7 @@ func (r *Replica) Delete(key string, seen api.Context) api.Errno {
 // of the caller's, which would be kept with it.
 func (r *Replica) keep(key string, after state.State, errno api.Errno) api.Errno {
 	if errno == api.OK {
-		r.states[strings.Clone(key)] = after
+		r.segmentOf(key)[strings.Clone(key)] = after
 	}
 	return errno
 }
@@ -65,7 +71,7 @@ func (r *Replica) Get(key string) ([]api.Version, api.Context, api.Errno) {
 	if !state.IsKey(key) {
 		return nil, api.Context{}, api.ErrKey
 	}
-	s := r.states[key]
+	s := r.segmentOf(key)[key]
 	return told(s.Versions), api.Context(s.Context), api.OK
 }
 
@@ -81,9 +87,11 @@ func told(versions []state.Version) []api.Version {
 // Keys tells those that have versions (P4).
 func (r *Replica) Keys() []string {
 	var keys []string
-	for key, s := range r.states {
-		if len(s.Versions) > 0 {
-			keys = append(keys, strings.Clone(key))
+	for _, in := range r.segments {
+		for key, s := range in {
+			if len(s.Versions) > 0 {
+				keys = append(keys, strings.Clone(key))
+			}
 		}
 	}
 	slices.Sort(keys)
@@ -91,13 +99,25 @@ func (r *Replica) Keys() []string {
 }
 
 // Segment tells the text of one (P5).
-func (r *Replica) Segment(n int) (string, api.Errno) { return "", api.OK }
+func (r *Replica) Segment(n int) (string, api.Errno) {
+	if !tree.Has(tree.Segments, n) {
+		return "", api.ErrPlace
+	}
+	return r.text(n), api.OK
+}
 
 // Digest tells that of a node (P5).
-func (r *Replica) Digest(level int, n int) (uint64, api.Errno) { return 0, api.OK }
+func (r *Replica) Digest(level int, n int) (uint64, api.Errno) {
+	if !tree.Has(level, n) {
+		return 0, api.ErrPlace
+	}
+	return r.digest(level, n), api.OK
+}
 
 // Hello is the letter with which it begins (P6).
-func (r *Replica) Hello() string { return "" }
+func (r *Replica) Hello() string {
+	return wire.Root(r.digest(tree.Root, 0))
+}
 
 // Hear takes a letter, and answers it (P6).
 func (r *Replica) Hear(letter string) (string, api.Errno) { return "", api.OK }

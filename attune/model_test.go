@@ -96,6 +96,35 @@ func (m *model) keys() []string {
 	return out
 }
 
+// texts are those of the segments, from the model alone.
+func (m *model) texts() [64]string {
+	var known []string
+	for key := range m.context {
+		known = append(known, key)
+	}
+	sort.Strings(known)
+	var out [64]string
+	for _, key := range known {
+		out[segmentOf(key)] += m.record(key)
+	}
+	return out
+}
+
+func (m *model) record(key string) string {
+	out := string([]byte{byte(len(key))}) + key
+	for _, n := range m.context[key] {
+		out += number(n)
+	}
+	not, _ := m.unseen(key, api.Context{})
+	out += number(not)
+	for _, w := range m.writes[key] {
+		if !w.gone {
+			out += string([]byte{byte(m.replica)}) + number(w.n) + string([]byte{byte(len(w.value))}) + w.value
+		}
+	}
+	return out
+}
+
 // someContext is mostly near what the key's context is, as callers' are.
 func someContext(rnd *rand.Rand, near api.Context) api.Context {
 	var c api.Context
@@ -120,8 +149,11 @@ func TestAgainstModel(t *testing.T) {
 		for range 30 {
 			r := made(t, n)
 			m := &model{n, map[string][]write{}, map[string]api.Context{}}
-			for range 300 {
+			for i := range 300 {
 				step(t, rnd, r, m, met)
+				if i%50 == 0 {
+					tree(t, r, m.texts())
+				}
 			}
 			if got, want := fmt.Sprint(r.Keys()), fmt.Sprint(m.keys()); got != want {
 				t.Fatalf("P4: Keys(): %s, want %s", got, want)

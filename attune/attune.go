@@ -6,9 +6,9 @@ import (
 	"strings"
 
 	"attune/api"
+	"attune/letters"
 	"attune/state"
 	"attune/tree"
-	"attune/wire"
 )
 
 // Replica: keys with their versions.
@@ -116,8 +116,14 @@ func (r *Replica) Digest(level int, n int) (uint64, api.Errno) {
 
 // Hello is the letter with which it begins (P6).
 func (r *Replica) Hello() string {
-	return wire.Root(r.digest(tree.Root, 0))
+	return letters.Root{Digest: r.digest(tree.Root, 0)}.Text()
 }
 
 // Hear takes a letter, and answers it (P6).
-func (r *Replica) Hear(letter string) (string, api.Errno) { return "", api.OK }
+func (r *Replica) Hear(letter string) (string, api.Errno) {
+	heard, errno := letters.Read(letter)
+	if errno != api.OK {
+		return "", errno
+	}
+	return r.answer(heard), api.OK
+}

@@ -12,12 +12,20 @@ import (
 // segment has the states of the known keys that are in it, and of no others.
 type segment map[string]state.State
 
-func (s segment) text() string {
-	var out []byte
+// records are those of all its keys, by rising bytes.
+func (s segment) records() []wire.Record {
+	var records []wire.Record
 	for _, key := range slices.Sorted(maps.Keys(s)) {
-		out = wire.Record{Key: key, State: s[key]}.AppendTo(out)
+		records = append(records, wire.Record{Key: key, State: s[key]})
 	}
-	return string(out)
+	return records
+}
+
+// join takes in what somebody else knows of its keys.
+func (s segment) join(records []wire.Record) {
+	for _, told := range records {
+		s[told.Key] = s[told.Key].Join(told.State)
+	}
 }
 
 // segmentOf is the segment that a key is in.
@@ -26,7 +34,7 @@ func (r *Replica) segmentOf(key string) segment {
 }
 
 func (r *Replica) text(n int) string {
-	return r.segments[n].text()
+	return string(wire.AppendRecords(nil, r.segments[n].records()))
 }
 
 // digest works it out anew: what has not changed since is not remembered, as no

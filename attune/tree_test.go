@@ -38,15 +38,21 @@ func record(r *attune.Replica, key string) string {
 	if len(versions) == 0 && context == (api.Context{}) {
 		return ""
 	}
-	out := string([]byte{byte(len(key))}) + key
+	return recordOf(key, context, versions...)
+}
+
+// recordOf is a record's bytes, whatever may be wrong with it.
+func recordOf(key string, context api.Context, versions ...api.Version) string {
+	var out strings.Builder
+	out.WriteString(string([]byte{byte(len(key))}) + key)
 	for _, n := range context {
-		out += number(n)
+		out.WriteString(number(n))
 	}
-	out += number(len(versions))
+	out.WriteString(number(len(versions)))
 	for _, v := range versions {
-		out += string([]byte{byte(v.Replica)}) + number(v.N) + string([]byte{byte(len(v.Value))}) + v.Value
+		out.WriteString(string([]byte{byte(v.Replica)}) + number(v.N) + string([]byte{byte(len(v.Value))}) + v.Value)
 	}
-	return out
+	return out.String()
 }
 
 // texts are those of all segments, of a replica that knows none but these keys.

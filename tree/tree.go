@@ -25,6 +25,11 @@ func Has(level, n int) bool {
 	return level >= Root && level <= Segments && n >= 0 && n < width(level)
 }
 
+// Child is the number, on the next level, of a node's child.
+func Child(n, i int) int {
+	return n*Children + i
+}
+
 // width is how many nodes there are that many levels below one.
 func width(levels int) int {
 	count := 1

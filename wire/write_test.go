@@ -20,7 +20,7 @@ func TestNumbers(t *testing.T) {
 		1000000:    "\x00\x0f\x42\x40",
 		0x12345678: "\x12\x34\x56\x78",
 	} {
-		if got := string(appendNumber([]byte("-"), n)); got != "-"+want {
+		if got := string(AppendNumber([]byte("-"), n)); got != "-"+want {
 			t.Errorf("P5: the number %d: %q, want %q", n, got, want)
 		}
 	}
@@ -32,9 +32,6 @@ func TestNumbers(t *testing.T) {
 	} {
 		if got := string(AppendDigest([]byte("-"), d)); got != "-"+want {
 			t.Errorf("P5: the digest %d: %q, want %q", d, got, want)
-		}
-		if got := Root(d); got != "R"+want {
-			t.Errorf("P6: the letter R of %d: %q, want %q", d, got, want)
 		}
 	}
 }
@@ -59,7 +56,7 @@ func TestRecord(t *testing.T) {
 				"\x01" + "\x00\x00\x00\x02" + "\x01z" +
 				"\x03" + "\x00\x0f\x42\x40" + "\x0c123456789012"},
 	} {
-		if got := string(c.AppendTo([]byte("-"))); got != "-"+c.want {
+		if got := string(AppendRecords([]byte("-"), []Record{c.Record})); got != "-"+c.want {
 			t.Errorf("P5: a record with %s: %q, want %q", c.name, got, c.want)
 		}
 	}
@@ -71,7 +68,7 @@ func TestManyVersions(t *testing.T) {
 	for n := range 300 {
 		r.Versions = append(r.Versions, v(0, n+1, ""))
 	}
-	got := string(r.AppendTo(nil))
+	got := string(AppendRecords(nil, []Record{r}))
 	if head := "\x01k\x00\x00\x01\x2c" + strings.Repeat("\x00", 12) + "\x00\x00\x01\x2c"; !strings.HasPrefix(got, head) || len(got) != len(head)+300*6 {
 		t.Errorf("P5: a record with 300 versions has %d bytes: %.40q", len(got), got)
 	}

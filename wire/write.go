@@ -1,10 +1,10 @@
-// Package wire: how numbers, records and letters stand in bytes.
+// Package wire: how numbers, digests and records stand in bytes.
 package wire
 
 import "attune/state"
 
-// appendNumber adds a number in four bytes, the highest first.
-func appendNumber(out []byte, n int) []byte {
+// AppendNumber adds a number in four bytes, the highest first.
+func AppendNumber(out []byte, n int) []byte {
 	return append(out, byte(n>>24), byte(n>>16), byte(n>>8), byte(n))
 }
 
@@ -28,22 +28,24 @@ type Record struct {
 	state.State
 }
 
-// AppendTo adds the record's bytes.
-func (r Record) AppendTo(out []byte) []byte {
-	out = appendText(out, r.Key)
-	for _, n := range r.Context {
-		out = appendNumber(out, n)
-	}
-	out = appendNumber(out, len(r.Versions))
-	for _, v := range r.Versions {
-		out = append(out, byte(v.Replica))
-		out = appendNumber(out, v.N)
-		out = appendText(out, v.Value)
+// AppendRecords adds the bytes of each, in their order.
+func AppendRecords(out []byte, records []Record) []byte {
+	for _, r := range records {
+		out = r.appendTo(out)
 	}
 	return out
 }
 
-// Root is the letter that tells the root's digest.
-func Root(digest uint64) string {
-	return string(AppendDigest([]byte{'R'}, digest))
+func (r Record) appendTo(out []byte) []byte {
+	out = appendText(out, r.Key)
+	for _, n := range r.Context {
+		out = AppendNumber(out, n)
+	}
+	out = AppendNumber(out, len(r.Versions))
+	for _, v := range r.Versions {
+		out = append(out, byte(v.Replica))
+		out = AppendNumber(out, v.N)
+		out = appendText(out, v.Value)
+	}
+	return out
 }
